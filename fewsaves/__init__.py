@@ -1,0 +1,1 @@
+"""Fewsaves: boxes saved where they are needed least often."""
