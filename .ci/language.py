@@ -25,6 +25,9 @@ METHODS = set(
     "casefold center expandtabs removeprefix removesuffix rindex isascii isdecimal isnumeric istitle isidentifier "
     "isprintable sort add discard encode decode hex fromhex to_bytes from_bytes translate maketrans".split()
 )
+PYTHONS_OWN = {name for kind in (str, int, list, dict, set, bytes) for name in dir(kind)}
+NOT_METHODS = PYTHONS_OWN - METHODS | set("encode decode hex fromhex to_bytes from_bytes translate maketrans".split())
+NOT_VALUES = PYTHONS_OWN - set("count index title find get join lower upper split strip copy add".split()) | {"args"}
 SPECIAL = set("__init__ __eq__ __repr__ __str__ __len__".split())
 NOT_NAMES = set(
     "register mro elements open input version_info with_traceback add_note attrgetter breakpoint builtins compile "
@@ -273,16 +276,33 @@ def look_at_set(path, node, parents, faults):
         faults.tell(path, node.lineno, "L24", "a set where none may stand")
 
 
-def own_values(trees):
-    """What classes of the package call their methods and values."""
-    found = set()
-    for tree in trees:
-        for node in ast.walk(tree):
-            if isinstance(node, ast.ClassDef):
-                found |= {part.name for part in node.body if isinstance(part, ast.FunctionDef)}
-            if isinstance(node, ast.Attribute) and isinstance(node.ctx, ast.Store):
-                found.add(node.attr)
-    return found
+def methods_in(tree):
+    """What the file's classes call their methods, each with a line."""
+    return [
+        (part.name, part.lineno)
+        for node in ast.walk(tree) if isinstance(node, ast.ClassDef)
+        for part in node.body if isinstance(part, ast.FunctionDef)
+    ]
+
+
+def values_in(tree):
+    """What the file calls the values that it gives to objects, each with a line."""
+    return [
+        (node.attr, node.lineno)
+        for node in ast.walk(tree) if isinstance(node, ast.Attribute) and isinstance(node.ctx, ast.Store)
+    ]
+
+
+def look_at_own(path, tree, methods, faults):
+    """The names of methods and values; methods: those of all the package."""
+    for name, line in methods_in(tree):
+        if name in NOT_METHODS - SPECIAL:
+            faults.tell(path, line, "L26", f"the method {name}")
+    for name, line in values_in(tree):
+        if name in NOT_VALUES:
+            faults.tell(path, line, "L26", f"the value {name}")
+        if name in methods:
+            faults.tell(path, line, "L18", f"{name} is a value here and a method, too")
 
 
 def top_names(tree):
@@ -324,7 +344,8 @@ def look_over(texts, package):
     faults = Faults()
     trees = {name: ast.parse(text) for name, text in texts.items()}
     tops = {name: top_names(tree) for name, tree in trees.items()}
-    own = own_values(trees.values())
+    methods = {name for tree in trees.values() for name, line in methods_in(tree)}
+    own = methods | {name for tree in trees.values() for name, line in values_in(tree)}
     draws = {}
     for name, tree in trees.items():
         path = f"{package}/{name}.py"
@@ -332,6 +353,7 @@ def look_over(texts, package):
         look_at_top(path, tree, faults)
         look_at_names(path, tree, faults)
         look_at_attributes(path, tree, own, faults)
+        look_at_own(path, tree, methods, faults)
         look_at_defs(path, tree, faults)
         look_at_forms(path, tree, faults)
         draws[name] = look_at_imports(path, tree, package, tops, faults)

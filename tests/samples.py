@@ -1,9 +1,45 @@
 """Works for the tests, and plain reckonings to hold the program's answers against."""
 
+import copy
 import itertools
 import random
 
+from fewsaves.lives import busy
+
 OUT = ("out",)
+
+# Things of all kinds, for checkers.
+ODD = (
+    -(10 ** 30), -2, -1, 0, 1, 2, 3, 7, 8, 9, 10 ** 12, 10 ** 30, True, False, None,
+    "", "out", "tell", "set", "Out", "save ", "0", "1",
+    [], [0], [[]], ["out"], ["tell", 0], [([], OUT)], [("tell", 0)],
+    (), (0,), (1,), ((),), ("out",), ("tell", 0), ("go", 1), ("go", 2), ("fork", 1, 2), ("fork", 2, 2), ([], OUT),
+    (["tell"], 0), ({}, 0), (None, 0), (True,), (("out",),),
+    {}, {0: 0}, {"out": 1}, {0: ([], OUT)}, [[[[[[[[[()]]]]]]]]],
+)
+
+
+def bent(thing):
+    """The like of a thing in other kinds, or with a part too few, too many, twice or elsewhere."""
+    if isinstance(thing, (list, tuple)):
+        kind = list if isinstance(thing, list) else tuple
+        parts = list(thing)
+        yield tuple(parts) if kind is list else parts
+        yield dict(enumerate(copy.deepcopy(parts)))
+        yield repr(thing)
+        yield kind(parts[::-1])
+        for odd in (0, None, True, "out", [], ()):
+            yield kind(parts + [odd])
+            yield kind([odd] + parts)
+        for at in range(len(parts)):
+            yield kind(parts[:at] + parts[at + 1:])
+            yield kind(parts[:at] + [parts[at]] + parts[at:])
+    if type(thing) is int:
+        for new in (thing - 1, thing + 1, -thing, str(thing), bool(thing), [thing], (thing,), {thing: thing}):
+            yield new
+    if isinstance(thing, str):
+        for new in (thing.upper(), thing + " ", thing[:-1], [thing], (thing,), {thing: thing}):
+            yield new
 
 
 def ends_among(many):
@@ -32,8 +68,10 @@ def shapes(many):
             yield [([], end) for end in ends]
 
 
-def some_ends(dice, many):
+def some_ends(dice, many, outs=0):
+    """Ends by chance, ways out the more often the greater outs is."""
     choices = ends_among(many)
+    choices += [OUT] * (outs * len(choices) // 8)
     while True:
         ends = [dice.choice(choices) for _ in range(many)]
         if all_led_to(ends):
@@ -56,11 +94,11 @@ PLAIN_WORDS = ("set", "add", "tell", "call")
 ALL_WORDS = PLAIN_WORDS + ("save", "back")
 
 
-def some_work(dice, works, most_blocks=5, most_deeds=3, boxes=(0, 1, 7), words=PLAIN_WORDS):
+def some_work(dice, works, most_blocks=5, most_deeds=3, boxes=(0, 1, 7), words=PLAIN_WORDS, outs=0):
     many = dice.randint(1, most_blocks)
     return [
         ([some_deed(dice, works, boxes, words) for _ in range(dice.randint(0, most_deeds))], end)
-        for end in some_ends(dice, many)
+        for end in some_ends(dice, many, outs)
     ]
 
 
@@ -68,6 +106,21 @@ def some_works(seed, words=PLAIN_WORDS, most_works=4, most_deeds=3):
     dice = random.Random(seed)
     works = dice.randint(1, most_works)
     return [some_work(dice, works, most_deeds=most_deeds, words=words) for _ in range(works)]
+
+
+def some_ending_works(seed, most_blocks=7):
+    """Works of more blocks, of which each calls later ones alone, so that runs with calls often end."""
+    dice = random.Random(seed)
+    many = dice.randint(1, 4)
+    works = []
+    for number in range(many):
+        words = PLAIN_WORDS if number + 1 < many else ("set", "add", "tell")
+        work = some_work(dice, many, most_blocks=most_blocks, boxes=(0, 1, 2, 7), words=words, outs=2)
+        works.append([
+            ([("call", dice.randrange(number + 1, many)) if deed[0] == "call" else deed for deed in deeds], end)
+            for deeds, end in work
+        ])
+    return works
 
 
 def walks(work, at, most):
@@ -145,3 +198,144 @@ def plain_reached(work, box):
 def plain_busy(works, number, box, asked):
     between = set(plain_reached(works[number], box)) & set(plain_awaited(works, number, box, asked))
     return sorted(between | set(plain_writers(works[number], box)))
+
+
+class Stop(Exception):
+    """What ends a plain run early; made with its state."""
+
+
+class PlainRun:
+    """A run reckoned by the words of the document; events tells all that happened in it, in order."""
+
+    def __init__(self, works, number, boxes, choices, most, own):
+        self.works = works
+        self.choices = iter(choices)
+        self.most = most
+        self.own = own
+        self.events = []
+        self.steps = 0
+        self.calls = 0
+        self.boxes = list(boxes)
+        try:
+            self.call(number, self.boxes, 1)
+            self.state = "ended"
+        except Stop as stop:
+            self.state = stop.args[0]
+
+    def note(self, *event):
+        self.events.append(event)
+
+    def of(self, word):
+        return [event[1:] for event in self.events if event[0] == word]
+
+    def step(self):
+        if self.steps == self.most:
+            raise Stop("going")
+        self.steps += 1
+
+    def call(self, number, boxes, depth):
+        if depth == 21:
+            raise Stop("deep")
+        self.calls += 1
+        me = self.calls
+        boxes = list(boxes) if self.own else boxes
+        begun = list(boxes)
+        aside = {}
+        many = len(self.works[number])
+        come_from, at = -1, 0
+        while True:
+            self.step()
+            self.note("way", number, (come_from, at))
+            deeds, end = self.works[number][at]
+            for deed in deeds:
+                self.do(deed, boxes, aside, me, depth)
+            if end[0] == "out":
+                break
+            come_from = at
+            at = end[1] if end[0] == "go" or next(self.choices, 0) == 0 else end[2]
+        self.note("way", number, (at, many))
+        self.note("out", me)
+        for box in range(8):
+            if boxes[box] != begun[box]:
+                self.note("fault", number, box)
+
+    def do(self, deed, boxes, aside, me, depth):
+        word, first = deed[:2]
+        if word == "save":
+            self.note("save", me, first)
+            aside.setdefault(first, []).append(boxes[first])
+        elif word == "back":
+            if first not in aside:
+                raise Stop("bare")
+            self.note("back", me, first)
+            boxes[first] = aside[first][-1]
+        else:
+            self.step()
+            if word == "set":
+                boxes[first] = deed[2]
+            elif word == "add":
+                boxes[first] = boxes[first] + boxes[deed[2]]
+            elif word == "tell":
+                self.note("tell", boxes[first])
+            elif word == "call":
+                self.call(first, boxes, depth + 1)
+
+    def told(self):
+        return [number for (number,) in self.of("tell")]
+
+    def moves(self):
+        return (len(self.of("save")), len(self.of("back")))
+
+    def counts(self):
+        gone = self.of("way")
+        return [[gone.count((at, way)) for way in plain_ways(work)] for at, work in enumerate(self.works)]
+
+
+def some_boxes(dice):
+    return [dice.randint(-9, 9) for _ in range(8)]
+
+
+def some_choices(dice, most=30):
+    return [dice.choice((0, 0, 1, -1, 5)) for _ in range(dice.randint(0, most))]
+
+
+def some_plan(dice, works, number):
+    """A right plan: of each box the busy blocks, and others by chance."""
+    work = works[number]
+    plan = {}
+    boxes = [box for box in range(8) if plain_writers(work, box)]
+    dice.shuffle(boxes)
+    for box in boxes:
+        share = dice.random()
+        others = [at for at in range(len(work)) if dice.random() < share]
+        plan[box] = sorted(set(others) | set(busy(works, number, box)))
+    return plan
+
+
+def some_plans(dice, works):
+    return [some_plan(dice, works, number) for number in range(len(works))]
+
+
+def plain_put(work, plan):
+    """All that is put, found by asking of each box and way whether it is saved ahead of the way and behind it."""
+    found = set()
+    for box, inside in plan.items():
+        saved = {at: at in inside for at in range(len(work))}
+        saved[-1] = saved[len(work)] = False
+        for way in plain_ways(work):
+            ahead, behind = saved[way[0]], saved[way[1]]
+            if behind and not ahead:
+                found.add((way, "save", box))
+            if ahead and not behind:
+                found.add((way, "back", box))
+    return sorted(found)
+
+
+def plain_home(work, way):
+    from_there = [other for other in plain_ways(work) if other[0] == way[0]]
+    to_there = [other for other in plain_ways(work) if other[1] == way[1]]
+    if way == (-1, 0):
+        return "begin"
+    if from_there == [way]:
+        return "end"
+    return "begin" if to_there == [way] else "split"

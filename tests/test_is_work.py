@@ -1,12 +1,11 @@
 """is_work and are_works: right works, and something else at each place of a work."""
 
-import copy
 import random
 import re
 import unittest
 
 from fewsaves.works import are_works, is_work
-from samples import ALL_WORDS, OUT, all_led_to, ends_among, shapes, some_work, some_works
+from samples import ALL_WORDS, ODD, OUT, all_led_to, bent, ends_among, shapes, some_work, some_works
 
 DEED = (
     r"(?:\('set', [0-7], -?\d+\)|\('add', [0-7], [0-7]\)"
@@ -15,15 +14,6 @@ DEED = (
 END = r"(?:\('out',\)|\('go', \d+\)|\('fork', \d+, \d+\))"
 BLOCK = rf"\(\[(?:{DEED}(?:, {DEED})*)?\], {END}\)"
 WORK = re.compile(rf"\[{BLOCK}(?:, {BLOCK})*\]")
-
-ODD = (
-    -(10 ** 30), -2, -1, 0, 1, 2, 3, 7, 8, 9, 10 ** 12, 10 ** 30, True, False, None,
-    "", "out", "tell", "set", "Out", "save ", "0", "1",
-    [], [0], [[]], ["out"], ["tell", 0], [([], OUT)], [("tell", 0)],
-    (), (0,), (1,), ((),), ("out",), ("tell", 0), ("go", 1), ("go", 2), ("fork", 1, 2), ("fork", 2, 2), ([], OUT),
-    (["tell"], 0), ({}, 0), (None, 0), (True,), (("out",),),
-    {}, {0: 0}, {"out": 1}, {0: ([], OUT)}, [[[[[[[[[()]]]]]]]]],
-)
 
 # Every deed and every end, and ways back and forth.
 FULL = [
@@ -71,29 +61,6 @@ def with_put(thing, place, new):
     parts = list(thing)
     parts[place[0]] = with_put(parts[place[0]], place[1:], new)
     return tuple(parts) if isinstance(thing, tuple) else parts
-
-
-def bent(thing):
-    """The like of a thing in other kinds, or with a part too few, too many, twice or elsewhere."""
-    if isinstance(thing, (list, tuple)):
-        kind = list if isinstance(thing, list) else tuple
-        parts = list(thing)
-        yield tuple(parts) if kind is list else parts
-        yield dict(enumerate(copy.deepcopy(parts)))
-        yield repr(thing)
-        yield kind(parts[::-1])
-        for odd in (0, None, True, "out", [], ()):
-            yield kind(parts + [odd])
-            yield kind([odd] + parts)
-        for at in range(len(parts)):
-            yield kind(parts[:at] + parts[at + 1:])
-            yield kind(parts[:at] + [parts[at]] + parts[at:])
-    if type(thing) is int:
-        for new in (thing - 1, thing + 1, -thing, str(thing), bool(thing), [thing], (thing,), {thing: thing}):
-            yield new
-    if isinstance(thing, str):
-        for new in (thing.upper(), thing + " ", thing[:-1], [thing], (thing,), {thing: thing}):
-            yield new
 
 
 class IsWork(unittest.TestCase):

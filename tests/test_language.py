@@ -30,6 +30,10 @@ MANY = 8
 class Box:
     def __init__(self, many):
         self.many = many
+        self.count = 0
+
+    def add(self, more):
+        self.many += more
 
 
 def sums(xs):
@@ -66,11 +70,18 @@ WRONG = {
     ),
     "L16": ("import os", "from pack.other import unheard_of"),
     "L17": ("# a type of box", "def f(id):\n    pass", "A = 'an enum'"),
+    "L18": (
+        "class A:\n    def many(self):\n        pass\n\n\nclass B:\n    def __init__(self):\n        self.many = 1",
+    ),
     "L19": ("def f(x):\n    try:\n        x()\n    except Exception:\n        pass",),
     "L20": ("def f(x, y):\n    return x is y",),
     "L23": ("def f(x):\n    y = zip(x, x)\n    return y", "def f(x):\n    return x.items()"),
     "L24": ("def f(x):\n    return set(x)", "def f(x):\n    return [y for y in {1, x}]", "def f(x):\n    g({1: {x}})"),
     "L25": ("def f(x):\n    return x.popitem()", "def f(x):\n    return x.union(x)"),
+    "L26": (
+        "class A:\n    def decode(self):\n        pass", "class A:\n    def union(self):\n        pass",
+        "def f(x):\n    x.items = 1", "def f(x):\n    x.real += 1", "def f(x):\n    x.args = 1",
+    ),
     "L27": ("A = '%'", "def f(x):\n    return 2 ** x"),
 }
 

@@ -3,35 +3,83 @@
 import copy
 import unittest
 
+from fewsaves.building import built, built_all
 from fewsaves.lives import asks, awaited, busy, reached
+from fewsaves.measuring import measured
+from fewsaves.plans import cost, home_of, is_plan, plain_plan, put_on, splits, tight_plan
+from fewsaves.runs import meant, moves_done, run
 from fewsaves.works import are_works, boxes_in, is_plain, is_work, rounds_in, ways_of
 from samples import OUT
 
 
 def sample():
-    return [
+    """All that is handed in: works, and what is asked of them."""
+    works = [
         [
             ([("set", 0, 5), ("set", 1, 2)], ("go", 1)),
             ([("add", 2, 0), ("call", 1)], ("fork", 1, 2)),
             ([("tell", 1), ("tell", 0)], OUT),
         ],
-        [([("tell", 3), ("call", 0)], ("fork", 2, 1)), ([("tell", 4)], ("go", 2)), ([("set", 4, 1)], OUT)],
+        [([("tell", 3), ("call", 2)], ("fork", 2, 1)), ([("tell", 4)], ("go", 2)), ([("set", 4, 1)], OUT)],
+        [([], OUT)],
     ]
+    return {
+        "works": works,
+        "laid": [[([("save", 0), ("set", 0, 4), ("back", 0), ("back", 0), ("set", 1, 9)], OUT)]],
+        "boxes": [10, 11, 12, 13, 14, 15, 16, 17],
+        "choices": [0, 0, 3, 1],
+        "plans": [{0: [0, 1, 2], 1: [0, 1, 2], 2: [1]}, {4: [1, 2]}, {}],
+        "loose": {4: [1]},
+        "counts": [1, 2, 3, 4, 5],
+    }
 
 
-# Each question, asked of works.
+def run_of(tells, works="works"):
+    """The question that tells of a run."""
+    return lambda given: tells(given[works], 0, given["boxes"], given["choices"], 100)
+
+
+# Each question, asked of what is handed in.
 QUESTIONS = {
-    "are_works": are_works,
-    "is_work": lambda works: is_work(works[0], 2),
-    "is_plain": lambda works: is_plain(works[0]),
-    "ways_of": lambda works: ways_of(works[0]),
-    "boxes_in": lambda works: boxes_in(works[0]),
-    "rounds_in": lambda works: rounds_in(works[0]),
-    "asks": asks,
-    "reached": lambda works: reached(works, 0, 0),
-    "awaited": lambda works: awaited(works, 0, 0),
-    "busy": lambda works: busy(works, 0, 0),
+    "are_works": lambda given: are_works(given["works"]),
+    "is_work": lambda given: is_work(given["works"][0], 3),
+    "is_plain": lambda given: is_plain(given["works"][0]),
+    "ways_of": lambda given: ways_of(given["works"][0]),
+    "boxes_in": lambda given: boxes_in(given["works"][0]),
+    "rounds_in": lambda given: rounds_in(given["works"][0]),
+    "asks": lambda given: asks(given["works"]),
+    "reached": lambda given: reached(given["works"], 0, 0),
+    "awaited": lambda given: awaited(given["works"], 0, 0),
+    "busy": lambda given: busy(given["works"], 0, 0),
+    "meant": run_of(meant),
+    "run": run_of(run),
+    "run laid": run_of(run, "laid"),
+    "moves_done": run_of(moves_done, "laid"),
+    "measured": run_of(measured),
+    "is_plan": lambda given: is_plan(given["works"], 0, given["plans"][0]),
+    "is_plan loose": lambda given: is_plan(given["works"], 1, given["loose"]),
+    "plain_plan": lambda given: plain_plan(given["works"][0]),
+    "tight_plan": lambda given: tight_plan(given["works"], 0),
+    "put_on": lambda given: put_on(given["works"][0], given["plans"][0]),
+    "cost": lambda given: cost(given["works"][0], given["plans"][0], given["counts"], (2, 3)),
+    "home_of": lambda given: home_of(given["works"][0], (1, 2)),
+    "splits": lambda given: splits(given["works"][1], given["plans"][1]),
+    "built": lambda given: built(given["works"][1], given["plans"][1]),
+    "built_all": lambda given: built_all(given["works"], given["plans"]),
 }
+
+LAID = [
+    [
+        ([("save", 0), ("save", 1), ("set", 0, 5), ("set", 1, 2), ("save", 2)], ("go", 1)),
+        ([("add", 2, 0), ("call", 1)], ("fork", 1, 2)),
+        ([("back", 2), ("tell", 1), ("tell", 0), ("back", 0), ("back", 1)], OUT),
+    ],
+    [
+        ([("tell", 3), ("call", 2)], ("fork", 3, 1)), ([("save", 4), ("tell", 4)], ("go", 2)),
+        ([("set", 4, 1), ("back", 4)], OUT), ([("save", 4)], ("go", 2)),
+    ],
+    [([], OUT)],
+]
 
 ANSWERS = {
     "are_works": True,
@@ -40,13 +88,47 @@ ANSWERS = {
     "ways_of": [(-1, 0), (0, 1), (1, 1), (1, 2), (2, 3)],
     "boxes_in": [0, 1, 2],
     "rounds_in": [(1, 1)],
-    "asks": [[2, 3, 4], [2, 3, 4]],
+    "asks": [[2, 3, 4], [3, 4], []],
     "reached": [1, 2],
     "awaited": [1, 2],
     "busy": [0, 1, 2],
+    "meant": ("ended", [13, 13, 14, 2, 5]),
+    "run": (
+        "ended", [13, 13, 1, 2, 5], [(1, 4), (0, 0), (0, 1), (0, 2), (0, 4)], [5, 2, 22, 13, 1, 15, 16, 17],
+    ),
+    "run laid": ("ended", [], [(0, 1)], [10, 9, 12, 13, 14, 15, 16, 17]),
+    "moves_done": (1, 2),
+    "measured": [[1, 1, 1, 1, 1], [2, 1, 1, 1, 2], [2, 2]],
+    "is_plan": True,
+    "is_plan loose": False,
+    "plain_plan": {0: [0, 1, 2], 1: [0, 1, 2], 2: [0, 1, 2]},
+    "tight_plan": {0: [0, 1, 2], 1: [0, 1, 2], 2: [1]},
+    "put_on": [
+        ((-1, 0), "save", 0), ((-1, 0), "save", 1), ((0, 1), "save", 2), ((1, 2), "back", 2), ((2, 3), "back", 0),
+        ((2, 3), "back", 1),
+    ],
+    "cost": 2 * (1 + 1 + 2) + 3 * (4 + 5 + 5),
+    "home_of": "begin",
+    "splits": [(0, 2)],
+    "built": LAID[1],
+    "built_all": LAID,
 }
 
-# The same, once the owner has changed the first work as change does.
+LAID_LATER = [
+    [
+        ([("save", 1), ("tell", 5), ("set", 1, 2), ("save", 2)], ("go", 1)),
+        ([("add", 2, 0), ("call", 1), ("back", 2)], ("go", 2)),
+        ([("tell", 1), ("tell", 0), ("back", 1), ("save", 6)], ("go", 3)),
+        ([("set", 6, 1), ("back", 6)], OUT),
+    ],
+    [
+        ([("save", 4), ("tell", 3), ("call", 2)], ("fork", 2, 1)), ([("tell", 4)], ("go", 2)),
+        ([("set", 4, 1), ("back", 4)], OUT),
+    ],
+    [([], OUT)],
+]
+
+# The same, once the owner has changed what was handed in as change does.
 ANSWERS_LATER = {
     "are_works": True,
     "is_work": True,
@@ -54,33 +136,65 @@ ANSWERS_LATER = {
     "ways_of": [(-1, 0), (0, 1), (1, 2), (2, 3), (3, 4)],
     "boxes_in": [1, 2, 6],
     "rounds_in": [],
-    "asks": [[0, 2, 3, 4, 5], [0, 2, 3, 4, 5]],
+    "asks": [[0, 2, 3, 4, 5], [3, 4], []],
     "reached": [],
     "awaited": [0, 1, 2],
     "busy": [],
+    "meant": ("ended", [15, 13, 14, 2, 20]),
+    "run": (
+        "ended", [15, 13, 14, 2, 20], [(1, 4), (0, 1), (0, 2), (0, 4), (0, 6)], [20, 2, 32, 13, 1, 15, 1, 17],
+    ),
+    "run laid": ("ended", [], [(0, 1)], [20, 9, 12, 13, 14, 15, 16, 17]),
+    "moves_done": (2, 2),
+    "measured": [[1, 1, 1, 1, 1], [1, 1, 0, 1, 1], [1, 1]],
+    "is_plan": True,
+    "is_plan loose": True,
+    "plain_plan": {1: [0, 1, 2, 3], 2: [0, 1, 2, 3], 6: [0, 1, 2, 3]},
+    "tight_plan": {1: [0, 1, 2], 2: [1], 6: [3]},
+    "put_on": [
+        ((-1, 0), "save", 1), ((0, 1), "save", 2), ((1, 2), "back", 2), ((2, 3), "back", 1), ((2, 3), "save", 6),
+        ((3, 4), "back", 6),
+    ],
+    "cost": 2 * (100 + 2 + 4) + 3 * (3 + 4 + 5),
+    "home_of": "end",
+    "splits": [],
+    "built": LAID_LATER[1],
+    "built_all": LAID_LATER,
 }
 
 
-def change(works):
+def change(given):
+    works = given["works"]
     works[0][0][0][0] = ("tell", 5)
     works[0][1] = (works[0][1][0], ("go", 2))
     works[0][2] = (works[0][2][0], ("go", 3))
     works[0].append(([("set", 6, 1)], OUT))
+    given["laid"][0][0][0].insert(0, ("save", 1))
+    given["boxes"][0] = 20
+    given["choices"].insert(0, 3)
+    del given["plans"][0][0]
+    given["plans"][0][6] = [3]
+    given["plans"][1][4].insert(0, 0)
+    given["loose"][4].append(2)
+    given["counts"][0] = 100
 
 
 def lists_in(thing):
     """All lists and dicts in a thing, itself too."""
     found = [thing] if isinstance(thing, (list, dict)) else []
-    if isinstance(thing, (list, tuple)):
-        for part in thing:
+    if isinstance(thing, (list, tuple, dict)):
+        for part in thing.values() if isinstance(thing, dict) else thing:
             found.extend(lists_in(part))
     return found
 
 
 def ruin(thing):
     for part in lists_in(thing):
-        part.insert(0, "ruined")
-        part.append(None)
+        if isinstance(part, list):
+            part.insert(0, "ruined")
+            part.append(None)
+        else:
+            part["ruined"] = None
 
 
 class OwnAnswers(unittest.TestCase):
@@ -91,44 +205,44 @@ class OwnAnswers(unittest.TestCase):
             self.assertEqual(repr(told), repr(ANSWERS[name]), name)
 
     def test_what_is_handed_in_stays_as_it_was(self):
-        works = sample()
+        given = sample()
         for name, question in QUESTIONS.items():
-            question(works)
-            self.assertEqual(repr(works), repr(sample()), name)
+            question(given)
+            self.assertEqual(repr(given), repr(sample()), name)
 
     def test_what_is_handed_in_stays_the_very_same_things(self):
-        works = sample()
-        ahead = [id(part) for part in lists_in(works)]
+        given = sample()
+        ahead = [id(part) for part in lists_in(given)]
         for name, question in QUESTIONS.items():
-            question(works)
-            self.assertEqual([id(part) for part in lists_in(works)], ahead, name)
+            question(given)
+            self.assertEqual([id(part) for part in lists_in(given)], ahead, name)
 
     def test_the_same_question_is_told_the_same(self):
-        works = sample()
+        given = sample()
         for name in list(QUESTIONS) + list(QUESTIONS)[::-1]:
-            self.assertEqual(QUESTIONS[name](works), ANSWERS[name], name)
-            self.assertEqual(QUESTIONS[name](copy.deepcopy(works)), ANSWERS[name], name)
+            self.assertEqual(QUESTIONS[name](given), ANSWERS[name], name)
+            self.assertEqual(QUESTIONS[name](copy.deepcopy(given)), ANSWERS[name], name)
 
     def test_what_is_told_may_be_changed(self):
-        works = sample()
+        given = sample()
         for name, question in QUESTIONS.items():
-            ruin(question(works))
-            self.assertEqual(repr(works), repr(sample()), name)
+            ruin(question(given))
+            self.assertEqual(repr(given), repr(sample()), name)
             for later in QUESTIONS:
-                self.assertEqual(QUESTIONS[later](works), ANSWERS[later], (name, later))
+                self.assertEqual(QUESTIONS[later](given), ANSWERS[later], (name, later))
 
     def test_no_told_list_changes_with_another(self):
-        works = sample()
+        given = sample()
         for name, question in QUESTIONS.items():
-            first = question(works)
-            second = question(works)
+            first = question(given)
+            second = question(given)
             ruin(first)
             self.assertEqual(second, ANSWERS[name], name)
 
     def test_no_told_list_is_told_twice_or_was_handed_in(self):
-        works = sample()
-        told = [question(works) for question in list(QUESTIONS.values()) * 2]
-        parts = [part for answer in told for part in lists_in(answer)] + lists_in(works)
+        given = sample()
+        told = [question(given) for question in list(QUESTIONS.values()) * 2]
+        parts = [part for answer in told for part in lists_in(answer)] + lists_in(given)
         self.assertEqual(len({id(part) for part in parts}), len(parts))
 
     def test_empty_lists_are_the_askers_own_too(self):
@@ -136,6 +250,9 @@ class OwnAnswers(unittest.TestCase):
         for question in (
             lambda: boxes_in(works[0]), lambda: rounds_in(works[0]), lambda: asks(works)[0], lambda: asks(works)[1],
             lambda: reached(works, 0, 0), lambda: awaited(works, 0, 0), lambda: busy(works, 0, 0),
+            lambda: meant(works, 0, [0] * 8, [], 9)[1], lambda: run(works, 0, [0] * 8, [], 9)[1],
+            lambda: run(works, 0, [0] * 8, [], 9)[2], lambda: put_on(works[0], {}), lambda: splits(works[0], {}),
+            lambda: built(works[0], {})[0][0],
         ):
             told = question()
             self.assertEqual(told, [])
@@ -144,17 +261,28 @@ class OwnAnswers(unittest.TestCase):
         both = asks(works)
         both[0].append(9)
         self.assertEqual(both, [[9], []])
+        both = built_all(works, [{}, {}])
+        both[0][0][0].append(9)
+        self.assertEqual((both[1], works), ([([], OUT)], [[([], OUT)], [([], OUT)]]))
 
-    def test_a_work_changed_by_its_owner_is_told_of_as_it_then_is(self):
-        works = sample()
-        ahead = {name: question(works) for name, question in QUESTIONS.items()}
-        change(works)
+    def test_empty_plans_are_the_askers_own_too(self):
+        works = [[([], OUT)]]
+        for question in (lambda: plain_plan(works[0]), lambda: tight_plan(works, 0)):
+            told = question()
+            self.assertEqual(told, {})
+            told[0] = []
+            self.assertEqual(question(), {})
+
+    def test_what_its_owner_changed_is_told_of_as_it_then_is(self):
+        given = sample()
+        ahead = {name: question(given) for name, question in QUESTIONS.items()}
+        change(given)
         for name, question in QUESTIONS.items():
-            self.assertEqual(question(works), ANSWERS_LATER[name], name)
+            self.assertEqual(question(given), ANSWERS_LATER[name], name)
         self.assertEqual(ahead, ANSWERS)
 
     def test_a_work_made_plain_and_not_by_its_owner(self):
-        works = sample()
+        works = sample()["works"]
         self.assertIs(is_plain(works[0]), True)
         works[0][1][0].append(("back", 0))
         self.assertIs(is_plain(works[0]), False)
@@ -162,14 +290,14 @@ class OwnAnswers(unittest.TestCase):
         self.assertIs(is_plain(works[0]), True)
 
     def test_a_work_made_wrong_by_its_owner(self):
-        works = sample()
+        works = sample()["works"]
         self.assertIs(are_works(works), True)
-        works[1][0][0].append(("call", 2))
+        works[1][0][0].append(("call", 3))
         self.assertIs(are_works(works), False)
-        self.assertIs(is_work(works[1], 2), False)
+        self.assertIs(is_work(works[1], 3), False)
         works[1][0][0].pop()
         self.assertIs(are_works(works), True)
-        self.assertIs(is_work(works[1], 2), True)
+        self.assertIs(is_work(works[1], 3), True)
 
 
 if __name__ == "__main__":
