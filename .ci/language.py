@@ -124,6 +124,25 @@ def look_at_names(path, tree, faults):
             faults.tell(path, node.value.lineno, "L17", f"the keyword {node.arg}")
 
 
+def look_at_locals(path, tree, faults):
+    """No parameter, local or def within a def is called like a class or an import of its file."""
+    taken = {node.name for node in tree.body if isinstance(node, ast.ClassDef)}
+    for node in tree.body:
+        if isinstance(node, ast.ImportFrom):
+            taken |= {alias.asname or alias.name for alias in node.names}
+    for node in ast.walk(tree):
+        if isinstance(node, ast.FunctionDef):
+            for part in node.body:
+                look_for_taken(path, part, taken, faults)
+            look_for_taken(path, node.args, taken, faults)
+
+
+def look_for_taken(path, part, taken, faults):
+    for name, line in bound_names(part):
+        if name in taken:
+            faults.tell(path, line, "L15", f"{name} is a class or an import of this file")
+
+
 def look_at_attributes(path, tree, own, faults):
     for node in ast.walk(tree):
         if isinstance(node, ast.Attribute) and node.attr not in METHODS | own | {"__init__"}:
@@ -352,6 +371,7 @@ def look_over(texts, package):
         look_at_text(path, texts[name], faults)
         look_at_top(path, tree, faults)
         look_at_names(path, tree, faults)
+        look_at_locals(path, tree, faults)
         look_at_attributes(path, tree, own, faults)
         look_at_own(path, tree, methods, faults)
         look_at_defs(path, tree, faults)

@@ -5,6 +5,7 @@ import itertools
 import random
 
 from fewsaves.lives import busy
+from fewsaves.works import rounds_in
 
 OUT = ("out",)
 
@@ -66,6 +67,11 @@ def shapes(many):
     for ends in itertools.product(ends_among(many), repeat=many):
         if all_led_to(ends):
             yield [([], end) for end in ends]
+
+
+def written_at(work, at, box):
+    """The work with a write of the box in one of its blocks."""
+    return [(deeds + ([("set", box, 1)] if here == at else []), end) for here, (deeds, end) in enumerate(work)]
 
 
 def some_ends(dice, many, outs=0):
@@ -339,3 +345,114 @@ def plain_home(work, way):
     if from_there == [way]:
         return "end"
     return "begin" if to_there == [way] else "split"
+
+
+def some_counts(dice, work):
+    """Counts of the work's ways, among them often noughts and like ones, so that unlike lists cost the same."""
+    among = dice.choice(((0,), (0, 1), (1, 2, 3), (0, 0, 1, 2, 7), (0, 1, 10 ** 12, 10 ** 12 - 1), range(1000)))
+    return [dice.choice(among) for way in plain_ways(work)]
+
+
+def some_prices(dice):
+    among = dice.choice(((0, 1), (1,), (0, 1, 2, 5), (1, 10 ** 6)))
+    return (dice.choice(among), dice.choice(among))
+
+
+def some_shut(dice, work):
+    """Ways by chance, in any order: none, few or many of them, or those of rounds."""
+    share = dice.choice((0, 0, 0.1, 0.3, 0.6))
+    ways = [way for way in plain_ways(work) if dice.random() < share]
+    if dice.random() < 0.2:
+        ways = rounds_in(work)
+    dice.shuffle(ways)
+    return ways
+
+
+def some_asked(seed, most_blocks=7):
+    """For each box of one work by chance a tuple of arguments for cheapest and its like, and the box's busy blocks."""
+    dice = random.Random(seed)
+    works = some_works(seed) if seed % 2 else some_ending_works(seed, most_blocks)
+    number = dice.randrange(len(works))
+    work = works[number]
+    asked = plain_asks(works)
+    for box in range(8):
+        needed = plain_busy(works, number, box, asked)
+        if needed:
+            yield (works, number, box, some_counts(dice, work), some_prices(dice), some_shut(dice, work)), needed
+
+
+def plain_lists(work, needed):
+    """All rising lists of blocks with the needed ones among them."""
+    others = [at for at in range(len(work)) if at not in needed]
+    for many in range(len(others) + 1):
+        for more in itertools.combinations(others, many):
+            yield sorted(list(needed) + list(more))
+
+
+def plain_price(work, inside, counts, prices, shut):
+    """What one box kept saved there costs; None where it puts something on a shut way."""
+    total = 0
+    saved = set(inside)
+    for way, count in zip(plain_ways(work), counts):
+        if (way[0] in saved) != (way[1] in saved):
+            if way in shut:
+                return None
+            total += count * prices[0] if way[1] in saved else count * prices[1]
+    return total
+
+
+def plain_best(work, needed, counts, prices, shut):
+    """The least cost of all lists of blocks with the needed ones, and all lists that cost it; None and none of none."""
+    least = None
+    best = []
+    for inside in plain_lists(work, needed):
+        price = plain_price(work, inside, counts, prices, shut)
+        if price is not None and (least is None or price <= least):
+            best = (best if price == least else []) + [inside]
+            least = price
+    return least, best
+
+
+def paper_faults(asked, needed, inside, flows):
+    """Which sentences of the document a paper of flows doesn't keep, for a list of blocks; needed: the busy ones."""
+    works, number, box, counts, prices, shut = asked
+    work = works[number]
+    many = len(work)
+    ways = plain_ways(work)
+    faults = []
+    if not set(needed) <= set(inside) or inside != sorted(set(inside)) or not set(inside) <= set(range(many)):
+        faults.append("inside")
+    if plain_price(work, inside, counts, prices, shut) is None:
+        faults.append("shut")
+    if type(flows) is not list or len(flows) != len(ways) or any(type(flow) is not int for flow in flows):
+        return faults + ["kinds"]
+    for way, count, flow in zip(ways, counts, flows):
+        if way not in shut and flow > count * prices[1]:
+            faults.append("back")
+        if way not in shut and flow < 0 - count * prices[0]:
+            faults.append("save")
+    for at in range(many):
+        to_it = sum(flow for way, flow in zip(ways, flows) if way[1] == at)
+        from_it = sum(flow for way, flow in zip(ways, flows) if way[0] == at)
+        if at not in needed and to_it != from_it:
+            faults.append("block")
+    outs = sum(flow for way, flow in zip(ways, flows) if way[1] == many)
+    door = sum(flow for way, flow in zip(ways, flows) if way == (-1, 0))
+    if outs - door != plain_price(work, inside, counts, prices, []):
+        faults.append("cost")
+    return faults
+
+
+def big_work(dice, many=16, boxes=(0, 3), share=0.2):
+    """A work of many blocks, of which few write or read, with forks on and back."""
+    ends = []
+    for at in range(many - 1):
+        other = dice.choice([to for to in range(1, many) if to != at + 1])
+        ends.append(dice.choice((("go", at + 1), ("fork", at + 1, other), ("fork", other, at + 1))))
+    ends.append(OUT)
+    deeds = [
+        [some_deed(dice, 1, boxes, ("set", "add", "tell")) for _ in range(2) if dice.random() < share] for _ in ends
+    ]
+    deeds[dice.randrange(many)].append(("set", boxes[0], 1))
+    deeds[dice.randrange(many)].append(("set", boxes[1], 1))
+    return list(zip(deeds, ends))

@@ -67,6 +67,9 @@ WRONG = {
     "L14": ("A = '\u00e4'", "A = 1\t"),
     "L15": (
         "A = 1\nA = 2", "def f(max):\n    return max", "A = [[1]]", "A = {1: {}}", "def f():\n    class A:\n        pass",
+        "from pack.other import led_to\n\n\ndef f(led_to):\n    return led_to",
+        "from pack.other import led_to\n\n\ndef f(xs):\n    for led_to in xs:\n        f(led_to)",
+        "class A:\n    pass\n\n\ndef f(xs):\n    A = xs\n    return A",
     ),
     "L16": ("import os", "from pack.other import unheard_of"),
     "L17": ("# a type of box", "def f(id):\n    pass", "A = 'an enum'"),

@@ -4,6 +4,8 @@ import copy
 import unittest
 
 from fewsaves.building import built, built_all
+from fewsaves.cuts import cheapest, cheapest_plan, least_cost, widest
+from fewsaves.flows import flow_paper, why_none
 from fewsaves.lives import asks, awaited, busy, reached
 from fewsaves.measuring import measured
 from fewsaves.plans import cost, home_of, is_plan, plain_plan, put_on, splits, tight_plan
@@ -31,12 +33,20 @@ def sample():
         "plans": [{0: [0, 1, 2], 1: [0, 1, 2], 2: [1]}, {4: [1, 2]}, {}],
         "loose": {4: [1]},
         "counts": [1, 2, 3, 4, 5],
+        "shut": [(-1, 0)],
+        "round": [(1, 1)],
+        "tied": [(0, 1), (-1, 0)],
     }
 
 
 def run_of(tells, works="works"):
     """The question that tells of a run."""
     return lambda given: tells(given[works], 0, given["boxes"], given["choices"], 100)
+
+
+def box_of(tells):
+    """The question that tells of a box of work 1."""
+    return lambda given: tells(given["works"], 1, 4, given["counts"], (2, 3), given["shut"])
 
 
 # Each question, asked of what is handed in.
@@ -66,6 +76,13 @@ QUESTIONS = {
     "splits": lambda given: splits(given["works"][1], given["plans"][1]),
     "built": lambda given: built(given["works"][1], given["plans"][1]),
     "built_all": lambda given: built_all(given["works"], given["plans"]),
+    "cheapest": box_of(cheapest),
+    "widest": box_of(widest),
+    "least_cost": box_of(least_cost),
+    "cheapest_plan": lambda given: cheapest_plan(given["works"], 0, given["counts"], (2, 3), given["round"]),
+    # Asked where one paper alone is right, and one row alone has the fewest blocks.
+    "flow_paper": box_of(flow_paper),
+    "why_none": lambda given: why_none(given["works"], 0, 2, given["tied"]),
 }
 
 LAID = [
@@ -112,6 +129,12 @@ ANSWERS = {
     "splits": [(0, 2)],
     "built": LAID[1],
     "built_all": LAID,
+    "cheapest": [1, 2],
+    "widest": [1, 2],
+    "least_cost": 2 * (2 + 3) + 3 * 5,
+    "cheapest_plan": {0: [0, 1, 2], 1: [0, 1, 2], 2: [0, 1]},
+    "flow_paper": [-10, -4, -6, -4, 15],
+    "why_none": [1, 0],
 }
 
 LAID_LATER = [
@@ -160,6 +183,12 @@ ANSWERS_LATER = {
     "splits": [],
     "built": LAID_LATER[1],
     "built_all": LAID_LATER,
+    "cheapest": [2],
+    "widest": [2],
+    "least_cost": 2 * (3 + 4) + 3 * 5,
+    "cheapest_plan": {1: [0, 1, 2], 2: [0, 1], 6: [2, 3]},
+    "flow_paper": [-14, -8, -6, -8, 15],
+    "why_none": [1, 2, 3],
 }
 
 
@@ -177,6 +206,9 @@ def change(given):
     given["plans"][1][4].insert(0, 0)
     given["loose"][4].append(2)
     given["counts"][0] = 100
+    given["shut"][0] = (0, 1)
+    given["round"][0] = (0, 1)
+    given["tied"][:] = [(3, 4), (2, 3), (1, 2)]
 
 
 def lists_in(thing):
@@ -267,7 +299,10 @@ class OwnAnswers(unittest.TestCase):
 
     def test_empty_plans_are_the_askers_own_too(self):
         works = [[([], OUT)]]
-        for question in (lambda: plain_plan(works[0]), lambda: tight_plan(works, 0)):
+        for question in (
+            lambda: plain_plan(works[0]), lambda: tight_plan(works, 0),
+            lambda: cheapest_plan(works, 0, [1, 1], (1, 1), []),
+        ):
             told = question()
             self.assertEqual(told, {})
             told[0] = []
