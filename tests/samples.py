@@ -3,7 +3,9 @@
 import copy
 import itertools
 import random
+import re
 
+from fewsaves.errors import BadRow, NoWorks
 from fewsaves.lives import busy
 from fewsaves.works import rounds_in
 
@@ -297,6 +299,19 @@ class PlainRun:
         return [[gone.count((at, way)) for way in plain_ways(work)] for at, work in enumerate(self.works)]
 
 
+def wrong_turns(plain):
+    """The (call, box) of a run whose saves and backs aren't by turns, a save first, and in ended calls a back last."""
+    ended = {call for (call,) in plain.of("out")}
+    moves = {}
+    for event in plain.events:
+        if event[0] in ("save", "back"):
+            moves.setdefault(event[1:], []).append(event[0])
+    return [
+        (call, box) for (call, box), words in moves.items()
+        if words != [("save", "back")[at % 2] for at in range(len(words))] or call in ended and words[-1] != "back"
+    ]
+
+
 def some_boxes(dice):
     return [dice.randint(-9, 9) for _ in range(8)]
 
@@ -443,6 +458,16 @@ def paper_faults(asked, needed, inside, flows):
     return faults
 
 
+def is_row(work, needed, shut, row):
+    """Whether a list of unlike blocks leads from a needed one by shut ways to one that a shut way ties to outside."""
+    if not row or len(set(row)) != len(row) or row[0] not in needed or not set(row) <= set(range(len(work))):
+        return False
+    tied = set(shut) | {(to, start) for start, to in shut}
+    if any(pair not in tied for pair in zip(row, row[1:])):
+        return False
+    return (row[-1], -1) in tied or (row[-1], len(work)) in tied
+
+
 def big_work(dice, many=16, boxes=(0, 3), share=0.2):
     """A work of many blocks, of which few write or read, with forks on and back."""
     ends = []
@@ -456,3 +481,114 @@ def big_work(dice, many=16, boxes=(0, 3), share=0.2):
     deeds[dice.randrange(many)].append(("set", boxes[0], 1))
     deeds[dice.randrange(many)].append(("set", boxes[1], 1))
     return list(zip(deeds, ends))
+
+
+NUMBER = "(?:0|[1-9][0-9]{0,8})"
+ROWS = {
+    "w": "work",
+    "b": "block",
+    "d": f"set [0-7] (?:0|-?[1-9][0-9]{{0,11}}|-?10{{12}})|add [0-7] {NUMBER}|(?:tell|save|back) [0-7]|call {NUMBER}",
+    "e": f"out|go {NUMBER}|fork {NUMBER} {NUMBER}",
+}
+TEXT = "(?:w(?:bd*e)+)+"
+
+
+def are_plainly_works(works):
+    """Whether what rightly written rows tell are works."""
+    for work in works:
+        ends = [end for deeds, end in work]
+        named = [to for end in ends for to in end[1:]]
+        if not all(0 < to < len(work) for to in named) or not all_led_to(ends):
+            return False
+        if any(len(set(end[1:])) != len(end) - 1 for end in ends):
+            return False
+        for deed in [deed for deeds, end in work for deed in deeds]:
+            if deed[0] == "call" and deed[1] >= len(works) or deed[0] == "add" and deed[2] > 7:
+                return False
+    return True
+
+
+def plain_read(text):
+    """What is read of a text of works: ("works", works), ("row", number) or ("none",)."""
+    rows = text.split("\n")
+    letters = ""
+    works = []
+    for at, row in enumerate(rows):
+        letters += next((letter for letter, form in ROWS.items() if re.fullmatch(form, row)), "-")
+        # A row can stand there where some rows behind it would make a text of it all.
+        if not any(re.fullmatch(TEXT, letters + more) for more in ("", "e", "be")):
+            return ("row", at)
+    if not re.fullmatch(TEXT, letters):
+        return ("row", len(rows))
+    for letter, row in zip(letters, rows):
+        told = tuple(int(word) if re.fullmatch("-?[0-9]+", word) else word for word in row.split(" "))
+        if letter == "w":
+            works.append([])
+        elif letter == "b":
+            works[-1].append([[]])
+        elif letter == "d":
+            works[-1][-1][0].append(told)
+        else:
+            works[-1][-1].append(told)
+    works = [[tuple(block) for block in work] for work in works]
+    return ("works", works) if are_plainly_works(works) else ("none",)
+
+
+def bent_texts(text, signs, words):
+    """The text with a sign, a word or a row put in, left out, or exchanged, at each place, or broken off there."""
+    for at in range(len(text) + 1):
+        yield text[:at]
+        yield text[:at] + text[at + 1:]
+        for sign in signs:
+            yield text[:at] + sign + text[at:]
+            yield text[:at] + sign + text[at + 1:]
+    rows = text.split("\n")
+    for at, row in enumerate(rows):
+        for new in bent_rows(row, words):
+            yield "\n".join(rows[:at] + new + rows[at + 1:])
+        for other in range(at):
+            swapped = list(rows)
+            swapped[at], swapped[other] = rows[other], rows[at]
+            yield "\n".join(swapped)
+
+
+def bent_rows(row, words):
+    """What may stand in a row's place: lists of rows."""
+    yield []
+    yield [row, row]
+    yield [row, ""]
+    yield [" " + row]
+    yield [row + " "]
+    yield [row.upper()]
+    parts = row.split(" ")
+    for at in range(len(parts) + 1):
+        yield [" ".join(parts[:at] + parts[at + 1:])]
+        yield [" ".join(parts[:at] + ["0"] + parts[at:])]
+        for word in words:
+            yield [" ".join(parts[:at] + [word] + parts[at + 1:])]
+
+
+class Reading:
+    """For tests of what reads texts: tells is asked, and held against reckoned; hold holds a right text."""
+
+    def hold_row(self, text, row):
+        with self.assertRaises(BadRow) as caught:
+            self.tells(text)
+        self.assertIs(type(caught.exception), BadRow)
+        self.assertIs(type(caught.exception.row), int)
+        self.assertEqual(caught.exception.row, row, text)
+
+    def hold_none(self, text):
+        with self.assertRaises(NoWorks) as caught:
+            self.tells(text)
+        self.assertIs(type(caught.exception), NoWorks)
+
+    def hold_as_reckoned(self, text):
+        told = self.reckoned(text)
+        if told[0] == "row":
+            self.hold_row(text, told[1])
+        elif told[0] == "none":
+            self.hold_none(text)
+        else:
+            self.hold(text, told[1])
+        return told[0]

@@ -10,6 +10,7 @@ from fewsaves.runs import meant, run
 from fewsaves.works import are_works, is_work
 from samples import (
     OUT, PlainRun, plain_home, plain_put, some_boxes, some_choices, some_ending_works, some_plan, some_plans, some_works,
+    wrong_turns,
 )
 
 MUCH = 600
@@ -223,20 +224,8 @@ class RunsOfBuiltWorks(unittest.TestCase):
         self.assertEqual(ran[2], [])
         if state == "ended":
             self.assertEqual(ran[3], boxes)
-        self.hold_turns(PlainRun(laid, number, boxes, choices, 2 * MUCH, False))
+        self.assertEqual(wrong_turns(PlainRun(laid, number, boxes, choices, 2 * MUCH, False)), [])
         return state
-
-    def hold_turns(self, plain):
-        """Saves and backs of a box in a call go by turns, a save first, and where the call ended a back last."""
-        ended = {call for (call,) in plain.of("out")}
-        moves = {}
-        for event in plain.events:
-            if event[0] in ("save", "back"):
-                moves.setdefault(event[1:], []).append(event[0])
-        for (call, box), words in moves.items():
-            self.assertEqual(words, [("save", "back")[at % 2] for at in range(len(words))])
-            if call in ended:
-                self.assertEqual(words[-1], "back")
 
     def hold_with_plans(self, works, dice, many):
         """The states of runs of the works with tight plans, plain ones, and so many by chance."""

@@ -10,7 +10,8 @@ from fewsaves.flows import flow_paper, why_none
 from fewsaves.lives import busy
 from fewsaves.works import rounds_in, ways_of
 from samples import (
-    OUT, big_work, paper_faults, plain_best, plain_ways, shapes, some_asked, some_counts, some_prices, some_shut, written_at,
+    OUT, big_work, is_row, paper_faults, plain_best, plain_ways, shapes, some_asked, some_counts, some_prices, some_shut,
+    written_at,
 )
 
 GREAT = 10 ** 12
@@ -134,16 +135,6 @@ class FlowPaper(unittest.TestCase):
                 first.append("ruined")
                 first[0] = None
                 self.assertEqual(flow_paper(*asked), kept)
-
-
-def is_row(work, needed, shut, row):
-    """Whether a list of unlike blocks leads from a needed one by shut ways to one that a shut way ties to outside."""
-    if not row or len(set(row)) != len(row) or row[0] not in needed:
-        return False
-    tied = set(shut) | {(to, start) for start, to in shut}
-    if any(pair not in tied for pair in zip(row, row[1:])):
-        return False
-    return (row[-1], -1) in tied or (row[-1], len(work)) in tied
 
 
 def plain_row_length(work, needed, shut):

@@ -5,11 +5,14 @@ import unittest
 
 from fewsaves.building import built, built_all
 from fewsaves.cuts import cheapest, cheapest_plan, least_cost, widest
+from fewsaves.desk import run_desk
+from fewsaves.flowcheck import shows_cheapest, shows_none
 from fewsaves.flows import flow_paper, why_none
 from fewsaves.lives import asks, awaited, busy, reached
 from fewsaves.measuring import measured
 from fewsaves.plans import cost, home_of, is_plan, plain_plan, put_on, splits, tight_plan
 from fewsaves.runs import meant, moves_done, run
+from fewsaves.texts import read_works, works_text
 from fewsaves.works import are_works, boxes_in, is_plain, is_work, rounds_in, ways_of
 from samples import OUT
 
@@ -36,6 +39,9 @@ def sample():
         "shut": [(-1, 0)],
         "round": [(1, 1)],
         "tied": [(0, 1), (-1, 0)],
+        "inside": [1, 2],
+        "flows": [-10, -4, -6, -4, 15],
+        "row": [1, 0],
     }
 
 
@@ -83,6 +89,12 @@ QUESTIONS = {
     # Asked where one paper alone is right, and one row alone has the fewest blocks.
     "flow_paper": box_of(flow_paper),
     "why_none": lambda given: why_none(given["works"], 0, 2, given["tied"]),
+    "shows_cheapest": lambda given: shows_cheapest(
+        given["works"], 1, 4, given["counts"], (2, 3), given["shut"], given["inside"], given["flows"]),
+    "shows_none": lambda given: shows_none(given["works"], 0, 2, given["tied"], given["row"]),
+    "works_text": lambda given: works_text(given["works"][1:]),
+    "read_works": lambda given: read_works(works_text(given["works"])),
+    "run_desk": lambda given: run_desk(works_text(given["works"]) + "\n\nplan 0\nshut 0 0 1\nput 0\nbusy 0 0"),
 }
 
 LAID = [
@@ -135,6 +147,16 @@ ANSWERS = {
     "cheapest_plan": {0: [0, 1, 2], 1: [0, 1, 2], 2: [0, 1]},
     "flow_paper": [-10, -4, -6, -4, 15],
     "why_none": [1, 0],
+    "shows_cheapest": True,
+    "shows_none": True,
+    "works_text": (
+        "work\nblock\ntell 3\ncall 2\nfork 2 1\nblock\ntell 4\ngo 2\nblock\nset 4 1\nout\nwork\nblock\nout"
+    ),
+    "read_works": sample()["works"],
+    "run_desk": [
+        "0:2:0,1,2 1:2:0,1,2 2:2:1", "done",
+        "door,0:save:0 door,0:save:1 door,0:save:2 1,2:back:2 2,out:back:0 2,out:back:1", "0 1 2",
+    ],
 }
 
 LAID_LATER = [
@@ -189,6 +211,23 @@ ANSWERS_LATER = {
     "cheapest_plan": {1: [0, 1, 2], 2: [0, 1], 6: [2, 3]},
     "flow_paper": [-14, -8, -6, -8, 15],
     "why_none": [1, 2, 3],
+    "shows_cheapest": False,
+    "shows_none": False,
+    "works_text": (
+        "work\nblock\ntell 3\ncall 2\nfork 2 1\nblock\ntell 4\ngo 2\nblock\nset 4 1\nout\nwork\nblock\nout"
+    ),
+    "read_works": [
+        [
+            ([("tell", 5), ("set", 1, 2)], ("go", 1)), ([("add", 2, 0), ("call", 1)], ("go", 2)),
+            ([("tell", 1), ("tell", 0)], ("go", 3)), ([("set", 6, 1)], OUT),
+        ],
+        sample()["works"][1],
+        sample()["works"][2],
+    ],
+    "run_desk": [
+        "1:2:0,1,2 2:2:1 6:2:3", "done",
+        "door,0:save:1 door,0:save:2 1,2:back:2 2,3:back:1 2,3:save:6 3,out:back:6", "-",
+    ],
 }
 
 
@@ -209,6 +248,8 @@ def change(given):
     given["shut"][0] = (0, 1)
     given["round"][0] = (0, 1)
     given["tied"][:] = [(3, 4), (2, 3), (1, 2)]
+    given["flows"][0] = -14
+    given["row"].append(1)
 
 
 def lists_in(thing):
